@@ -1,0 +1,82 @@
+// Package embrace: programs of several threads, and which of their locks could hold each other fast: see DOC.md.
+package embrace
+
+import (
+	"embrace/api"
+	"embrace/machine"
+	"embrace/program"
+)
+
+// Check tells whether a text is a program (P3).
+func Check(text string) (api.Errno, int) {
+	_, errno, place := program.Read(text)
+	return errno, place
+}
+
+// Run runs a program (P5).
+func Run(text string, picks string) (string, int, api.Errno) {
+	return Resume(text, "", picks)
+}
+
+// Resume runs a program on behind a schedule (P5).
+func Resume(text string, schedule string, picks string) (string, int, api.Errno) {
+	p, s, errno := follow(text, schedule)
+	if errno != api.OK {
+		return "", 0, errno
+	}
+	moves, how := machine.Run(p, s, picks)
+	return moves, how, api.OK
+}
+
+// Replay tells where a schedule leads (P6).
+func Replay(text string, schedule string) (api.View, api.Errno) {
+	p, s, errno := follow(text, schedule)
+	if errno != api.OK {
+		return api.View{}, errno
+	}
+	return machine.View(p, s), api.OK
+}
+
+// Asks tells who asks for a lock along a schedule (P7).
+func Asks(text string, schedule string) ([]api.Ask, api.Errno) {
+	return nil, firstError(text)
+}
+
+// Before tells whether an event must come ahead of another (P8).
+func Before(text string, schedule string, i int, j int) (bool, api.Errno) {
+	return false, firstError(text)
+}
+
+// Close tells all events without which some events cannot be (P9).
+func Close(text string, schedule string, events []int) ([]int, api.Errno) {
+	return nil, firstError(text)
+}
+
+// Predict tells the rings of a schedule (P10).
+func Predict(text string, schedule string, most int) ([]api.Report, bool, api.Errno) {
+	return nil, false, firstError(text)
+}
+
+// Search looks for a ring by trying all schedules (P12).
+func Search(text string, budget int) (string, int, api.Errno) {
+	return "", 0, firstError(text)
+}
+
+// firstError answers Check's error alone, which comes first in all other calls (P4).
+func firstError(text string) api.Errno {
+	errno, _ := Check(text)
+	return errno
+}
+
+// follow answers the program of a text and where a schedule of it leads, or the errors that come first in each call that takes a schedule.
+func follow(text string, schedule string) (program.Program, machine.State, api.Errno) {
+	p, errno, _ := program.Read(text)
+	if errno != api.OK {
+		return program.Program{}, machine.State{}, errno
+	}
+	s, ok := machine.Follow(p, schedule)
+	if !ok {
+		return program.Program{}, machine.State{}, api.ErrSchedule
+	}
+	return p, s, api.OK
+}
