@@ -5,6 +5,7 @@ import (
 	"embrace/api"
 	"embrace/machine"
 	"embrace/program"
+	"embrace/trace"
 )
 
 // Check tells whether a text is a program (P3).
@@ -39,17 +40,37 @@ func Replay(text string, schedule string) (api.View, api.Errno) {
 
 // Asks tells who asks for a lock along a schedule (P7).
 func Asks(text string, schedule string) ([]api.Ask, api.Errno) {
-	return nil, firstError(text)
+	l, errno := traceOf(text, schedule)
+	if errno != api.OK {
+		return nil, errno
+	}
+	return l.Asks(), api.OK
 }
 
 // Before tells whether an event must come ahead of another (P8).
 func Before(text string, schedule string, i int, j int) (bool, api.Errno) {
-	return false, firstError(text)
+	l, errno := traceOf(text, schedule)
+	if errno != api.OK {
+		return false, errno
+	}
+	if !l.Has(i) || !l.Has(j) {
+		return false, api.ErrArg
+	}
+	return l.Before(i, j), api.OK
 }
 
 // Close tells all events without which some events cannot be (P9).
 func Close(text string, schedule string, events []int) ([]int, api.Errno) {
-	return nil, firstError(text)
+	l, errno := traceOf(text, schedule)
+	if errno != api.OK {
+		return nil, errno
+	}
+	for k := 0; k < len(events); k++ {
+		if !l.Has(events[k]) {
+			return nil, api.ErrArg
+		}
+	}
+	return l.Close(events), api.OK
 }
 
 // Predict tells the rings of a schedule (P10).
@@ -79,4 +100,17 @@ func follow(text string, schedule string) (program.Program, machine.State, api.E
 		return program.Program{}, machine.State{}, api.ErrSchedule
 	}
 	return p, s, api.OK
+}
+
+// traceOf answers what a schedule tells of the program of a text, or the same first errors as follow.
+func traceOf(text string, schedule string) (trace.Trace, api.Errno) {
+	p, errno, _ := program.Read(text)
+	if errno != api.OK {
+		return trace.Trace{}, errno
+	}
+	l, ok := trace.Follow(p, schedule)
+	if !ok {
+		return trace.Trace{}, api.ErrSchedule
+	}
+	return l, api.OK
 }

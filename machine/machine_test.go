@@ -39,6 +39,26 @@ func TestLook(t *testing.T) {
 	}
 }
 
+func TestNext(t *testing.T) {
+	for _, c := range []struct {
+		text, schedule string
+		thread         int
+		step           program.Step
+		place          int
+		ok             bool
+	}{
+		{".?v3.;b", "0", 0, program.Step{Kind: program.Skip, Which: 1, Count: 3}, 1, true}, {"a;b", "", 1, program.Step{Kind: program.Take, Which: 1}, 0, true},
+		{"a;b", "0", 0, program.Step{}, 0, false}, {"a;b", "", 2, program.Step{}, 0, false}, {"a;b", "", -1, program.Step{}, 0, false}, {"a;b", "", 99, program.Step{}, 0, false}, {";;;;", "", 5, program.Step{}, 0, false},
+	} {
+		p := read(t, c.text)
+		s, _ := Follow(p, c.schedule)
+		step, place, ok := Next(p, s, c.thread)
+		if step != c.step || place != c.place || ok != c.ok {
+			t.Errorf("%q behind %q: thread %d: %v, %d, %v, want %v, %d, %v", c.text, c.schedule, c.thread, step, place, ok, c.step, c.place, c.ok)
+		}
+	}
+}
+
 func TestMoveThatMayNotBe(t *testing.T) {
 	for _, c := range []struct {
 		text, schedule string

@@ -11,7 +11,7 @@ func Move(p program.Program, s State, t int) (State, bool) {
 	if state != api.Ready {
 		return s, false
 	}
-	step, ok := p.Step(t, s.places[t])
+	step, _, ok := Next(p, s, t)
 	if !ok {
 		return s, false
 	}

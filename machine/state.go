@@ -49,6 +49,19 @@ func Look(p program.Program, s State, t int) (int, int) {
 	return api.Ready, nobody
 }
 
+// Next answers the next step of thread t and its place, and whether there is one.
+func Next(p program.Program, s State, t int) (program.Step, int, bool) {
+	if t < 0 || t >= p.Threads() {
+		return program.Step{}, 0, false
+	}
+	place := s.places[t]
+	step, ok := p.Step(t, place)
+	if !ok {
+		return program.Step{}, 0, false
+	}
+	return step, place, true
+}
+
 func lookAtTake(owner int, t int) (int, int) {
 	if owner == nobody || owner == t {
 		return faultIf(owner == t)

@@ -16,10 +16,11 @@ func View(p program.Program, s State) api.View {
 
 func viewThread(p program.Program, s State, t int) api.Thread {
 	state, waits := Look(p, s, t)
-	return api.Thread{State: state, Place: s.places[t], Holds: locksOf(s, t), Waits: waits}
+	return api.Thread{State: state, Place: s.places[t], Holds: Holds(s, t), Waits: waits}
 }
 
-func locksOf(s State, t int) string {
+// Holds answers the locks that thread t has, as letters in their order.
+func Holds(s State, t int) string {
 	letters := []byte{}
 	for lock := 0; lock < program.Locks; lock++ {
 		if s.owners[lock] == t {
