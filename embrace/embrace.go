@@ -3,6 +3,7 @@ package embrace
 
 import (
 	"embrace/api"
+	"embrace/circle"
 	"embrace/machine"
 	"embrace/program"
 	"embrace/trace"
@@ -75,7 +76,15 @@ func Close(text string, schedule string, events []int) ([]int, api.Errno) {
 
 // Predict tells the rings of a schedule (P10).
 func Predict(text string, schedule string, most int) ([]api.Report, bool, api.Errno) {
-	return nil, false, firstError(text)
+	l, errno := traceOf(text, schedule)
+	if errno != api.OK {
+		return nil, false, errno
+	}
+	if most < 0 || most > api.MaxReports {
+		return nil, false, api.ErrArg
+	}
+	reports, more := circle.Reports(l, most)
+	return reports, more, api.OK
 }
 
 // Search looks for a ring by trying all schedules (P12).

@@ -51,6 +51,9 @@ func TestP1EveryCallEndsAndNonePanics(t *testing.T) {
 			text = drawText(r, ".aAbB!u~?1><0;", 30)
 		}
 		schedule := drawText(r, "0001123456789", 12)
+		if r.Intn(2) == 0 {
+			schedule, _, _ = embrace.Run(text, drawPicks(r))
+		}
 		i, j := numbers[r.Intn(len(numbers))], numbers[r.Intn(len(numbers))]
 		answers(text, schedule, drawPicks(r), i, j, []int{i, j, i})
 	}
@@ -62,7 +65,7 @@ func TestP1EveryCallEndsAndNonePanics(t *testing.T) {
 func TestP1AnswersHangOnTheArgumentsAlone(t *testing.T) {
 	r := rand.New(rand.NewSource(2))
 	type call struct{ text, schedule, picks string }
-	calls := []call{{pair, "0012", ""}, {pair, "9", "\x01"}, {"ag", "", ""}, {";;;;;", "", ""}}
+	calls := []call{{pair, "0012", ""}, {pair, pairRun, ""}, {crowded, crowdedRun, ""}, {pair, "9", "\x01"}, {"ag", "", ""}, {";;;;;", "", ""}}
 	for range 100 {
 		text := drawProgram(r)
 		schedule, _, _ := embrace.Run(text, drawPicks(r))
@@ -70,11 +73,11 @@ func TestP1AnswersHangOnTheArgumentsAlone(t *testing.T) {
 	}
 	first := make([][]any, len(calls))
 	for i, c := range calls {
-		first[i] = answers(c.text, c.schedule, c.picks, 0, 1, []int{0})
+		first[i] = answers(c.text, c.schedule, c.picks, i%5, 7, []int{0})
 	}
 	for _, i := range r.Perm(len(calls)) {
 		c := calls[i]
-		if again := answers(c.text, c.schedule, c.picks, 0, 1, []int{0}); !reflect.DeepEqual(again, first[i]) {
+		if again := answers(c.text, c.schedule, c.picks, i%5, 7, []int{0}); !reflect.DeepEqual(again, first[i]) {
 			t.Errorf("P1: of %q: first %v, then %v", c, first[i], again)
 		}
 	}

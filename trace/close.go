@@ -95,3 +95,14 @@ func (l Trace) list(in set) []int {
 	}
 	return events
 }
+
+// Schedule answers the numbers of the threads of some events, in the order of the list. Numbers of no event are left out.
+func (l Trace) Schedule(events []int) string {
+	moves := []byte{}
+	for k := 0; k < len(events); k++ {
+		if l.Has(events[k]) {
+			moves = append(moves, byte('0'+l.events[events[k]].thread))
+		}
+	}
+	return string(moves)
+}

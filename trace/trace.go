@@ -1,4 +1,4 @@
-// Package trace tells what a schedule tells: who asks for which lock, which events must come ahead of others, and which events some others need (P7 to P9).
+// Package trace tells what a schedule tells: who asks for which lock, which events must come ahead of others, and which events some others need (P7 to P9; P10 builds on it).
 package trace
 
 import (

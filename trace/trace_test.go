@@ -70,3 +70,32 @@ func TestNumbersOfNoEvent(t *testing.T) {
 		t.Errorf("P8: events are not known")
 	}
 }
+
+func TestLastAhead(t *testing.T) {
+	for _, c := range []struct {
+		text, schedule string
+		ask, want      int
+		ok             bool
+	}{
+		{pair, run, 0, 0, false}, {pair, run, 1, 2, true}, {pair, run, 2, 0, false}, {pair, run, 3, 7, true},
+		{pair, "0012", 2, 2, true}, {pair, "0012", 3, 3, true}, {"a>1;a", "00", 1, 0, false}, {".a", "00", 0, 0, true}, {">1.a;.", "0010", 0, 1, true},
+	} {
+		l := follow(t, c.text, c.schedule)
+		ask := l.Asks()[c.ask]
+		if last, ok := l.LastAhead(ask); last != c.want || ok != c.ok {
+			t.Errorf("P10: of %q and %q, ask %d: %d, %v, want %d, %v", c.text, c.schedule, c.ask, last, ok, c.want, c.ok)
+		}
+	}
+}
+
+func TestSchedule(t *testing.T) {
+	l := follow(t, pair, run)
+	for _, c := range []struct {
+		events []int
+		want   string
+	}{{nil, ""}, {[]int{0, 1, 2, 7}, "0012"}, {[]int{11, 10, 5}, "021"}, {[]int{-1, 2, 12, math.MaxInt, 7, math.MinInt}, "12"}} {
+		if got := l.Schedule(c.events); got != c.want {
+			t.Errorf("P10: %v: %q, want %q", c.events, got, c.want)
+		}
+	}
+}
