@@ -124,6 +124,29 @@ func drawNested(r *rand.Rand) string {
 	}
 }
 
+// drawLoop draws a program of five threads, each of which takes a lock and then the next one's, so that a circle of all five is likely.
+func drawLoop(r *rand.Rand) string {
+	threads := make([]string, api.MaxThreads)
+	for at, t := range r.Perm(len(threads)) {
+		mine, next := string(rune('a'+at)), string(rune('a'+(at+1)%len(threads)))
+		body := mine + next + strings.ToUpper(mine+next)
+		switch r.Intn(12) {
+		case 0:
+			body = "f" + body + "F"
+		case 1:
+			body = drawFlag(r) + body
+		case 2:
+			body = body + "!u"
+		}
+		threads[t] = body
+	}
+	threads[0] = ">1>2>3>4" + threads[0]
+	if r.Intn(8) == 0 {
+		threads[0] = ">1<1>2>3>4" + threads[0][8:]
+	}
+	return strings.Join(threads, ";")
+}
+
 // drawStarts draws thread 0, which starts all others, and takes locks of its own if there is room.
 func drawStarts(r *rand.Rand, n int) string {
 	body := ""

@@ -105,7 +105,7 @@ func TestP10Verdicts(t *testing.T) {
 	})
 }
 
-// crowded has more than MaxReports circles, and those of all lengths.
+// crowded has more than MaxReports circles.
 const crowded = ">1>2>3>4abcdABCD;abcdefABCDEF;fedcbaABCDEF;cdefabABCDEF;defabcABCDEF"
 
 var crowdedRun = turns(0, 12, 1, 12, 2, 12, 3, 12, 4, 12)
@@ -149,7 +149,10 @@ func TestP10WrongInputs(t *testing.T) {
 func drawAsking(r *rand.Rand) (string, string) {
 	for {
 		text := drawTold(r)
-		if r.Intn(3) > 0 {
+		switch r.Intn(6) {
+		case 0:
+			text = drawLoop(r)
+		case 1, 2, 3:
 			text = drawNested(r)
 		}
 		schedule := drawSchedule(r, text)
@@ -181,7 +184,7 @@ func TestP10Drawn(t *testing.T) {
 			}
 		}
 	}
-	if slices.Min(verdicts[api.Gated:]) < 150 || slices.Min(waiting[api.Gated:]) < 5 || slices.Min(lengths[2:5]) < 40 {
+	if slices.Min(verdicts[api.Gated:]) < 150 || slices.Min(waiting[api.Gated:]) < 5 || slices.Min(lengths[2:]) < 40 {
 		t.Errorf("the drawn schedules try too little: %v, %v, %v", verdicts, waiting, lengths)
 	}
 }
