@@ -6,6 +6,7 @@ import (
 	"embrace/circle"
 	"embrace/machine"
 	"embrace/program"
+	"embrace/search"
 	"embrace/trace"
 )
 
@@ -89,13 +90,15 @@ func Predict(text string, schedule string, most int) ([]api.Report, bool, api.Er
 
 // Search looks for a ring by trying all schedules (P12).
 func Search(text string, budget int) (string, int, api.Errno) {
-	return "", 0, firstError(text)
-}
-
-// firstError answers Check's error alone, which comes first in all other calls (P4).
-func firstError(text string) api.Errno {
-	errno, _ := Check(text)
-	return errno
+	p, errno, _ := program.Read(text)
+	if errno != api.OK {
+		return "", 0, errno
+	}
+	if budget < 0 || budget > api.MaxBudget {
+		return "", 0, api.ErrArg
+	}
+	schedule, what := search.Search(p, budget)
+	return schedule, what, api.OK
 }
 
 // follow answers the program of a text and where a schedule of it leads, or the errors that come first in each call that takes a schedule.
